@@ -1,0 +1,1 @@
+"""Hushrules: rules that hush and wake rules, told for ever."""

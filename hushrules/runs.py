@@ -1,0 +1,88 @@
+"""Runs: beat behind beat, told for ever by the round to which each run comes."""
+
+from hushrules.beats import own_order, step
+from hushrules.checks import want_beats, want_off, want_rule, want_state
+
+
+def state_at(book, state, beats, *, off=()):
+    """The state ahead of the beat of this number."""
+    want_state(book, state)
+    want_beats(beats, 0)
+    want_off(book, off)
+    states, dones, begin = trail(book, state, off)
+    if beats < begin:
+        return states[beats]
+    return states[begin + (beats - begin) % (len(states) - begin)]
+
+
+def round_of(book, state, *, off=()):
+    """The beat whose state comes again, and how many beats behind it."""
+    want_state(book, state)
+    want_off(book, off)
+    states, dones, begin = trail(book, state, off)
+    return (begin, len(states) - begin)
+
+
+def quiet_from(book, state, *, off=()):
+    """The first beat from which on no rule ever does, or None."""
+    want_state(book, state)
+    want_off(book, off)
+    states, dones, begin = trail(book, state, off)
+    behind_last = max([number + 1 for number, done in enumerate(dones) if len(done) > 0], default=0)
+    # What is done within the round is done again and again.
+    return None if behind_last > begin else behind_last
+
+
+def times(book, state, rule, beats, *, off=()):
+    """How often the rule does at the beats from 0 to below this one."""
+    want_state(book, state)
+    want_rule(book, rule)
+    want_beats(beats, 0)
+    want_off(book, off)
+    sooner, around, begin, length = doings(book, state, rule, off)
+    if beats < begin:
+        return count_below(sooner, beats)
+    rounds, rest = divmod(beats - begin, length)
+    return len(sooner) + rounds * len(around) + count_below(around, begin + rest)
+
+
+def nth(book, state, rule, many=1, *, off=()):
+    """The beat at which the rule does for so many times, or None."""
+    want_state(book, state)
+    want_rule(book, rule)
+    want_beats(many, 1)
+    want_off(book, off)
+    sooner, around, begin, length = doings(book, state, rule, off)
+    if many <= len(sooner):
+        return sooner[many - 1]
+    if len(around) == 0:
+        return None
+    rounds, rest = divmod(many - 1 - len(sooner), len(around))
+    return around[rest] + rounds * length
+
+
+def trail(book, state, off):
+    """The states until one comes again, what was done at each, and the number of the one that comes again."""
+    order = own_order(book)
+    numbers = {}
+    states = []
+    dones = []
+    here = state
+    while here not in numbers:
+        numbers[here] = len(states)
+        states.append(here)
+        done, here = step(book, here, order, off)
+        dones.append(done)
+    return states, dones, numbers[here]
+
+
+def doings(book, state, rule, off):
+    """The beats at which the rule does, those ahead of the round and those of its first time, and the round."""
+    states, dones, begin = trail(book, state, off)
+    found = [number for number, done in enumerate(dones) if rule in done]
+    sooner = [number for number in found if number < begin]
+    return sooner, found[len(sooner):], begin, len(states) - begin
+
+
+def count_below(numbers, bound):
+    return len([number for number in numbers if number < bound])
