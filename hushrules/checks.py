@@ -60,6 +60,15 @@ def is_state_of(book, thing):
     return is_values(book.wheels, thing[0]) and is_left(len(book.rules), thing[1])
 
 
+def is_beats(thing, least):
+    return is_within(thing, least, GREATEST_BEAT)
+
+
+def is_headed(thing, word, many):
+    """Whether it is a tuple of so many things, the first one this word."""
+    return isinstance(thing, tuple) and len(thing) == many and thing[0] == word
+
+
 def want_state(book, thing):
     if not is_state_of(book, thing):
         raise NoState("no state of the book")
@@ -76,5 +85,5 @@ def want_off(book, thing):
 
 
 def want_beats(thing, least):
-    if not is_within(thing, least, GREATEST_BEAT):
+    if not is_beats(thing, least):
         raise NoBeat(thing)

@@ -10,9 +10,7 @@ def state_at(book, state, beats, *, off=()):
     want_beats(beats, 0)
     want_off(book, off)
     states, dones, begin = trail(book, state, off)
-    if beats < begin:
-        return states[beats]
-    return states[begin + (beats - begin) % (len(states) - begin)]
+    return states[number_at(begin, len(states), beats)]
 
 
 def round_of(book, state, *, off=()):
@@ -63,17 +61,36 @@ def nth(book, state, rule, many=1, *, off=()):
 
 def trail(book, state, off):
     """The states until one comes again, what was done at each, and the number of the one that comes again."""
+    return trail_along(ways_from(book, [state], off), state)
+
+
+def ways_from(book, starts, off):
+    """Of each state that the runs from these come to: what is done at the beat from it, and the state then."""
     order = own_order(book)
+    ways = {}
+    for start in starts:
+        here = start
+        while here not in ways:
+            ways[here] = step(book, here, order, off)
+            here = ways[here][1]
+    return ways
+
+
+def trail_along(ways, state):
+    """As trail, where the ways are known."""
     numbers = {}
-    states = []
     dones = []
     here = state
     while here not in numbers:
-        numbers[here] = len(states)
-        states.append(here)
-        done, here = step(book, here, order, off)
+        numbers[here] = len(numbers)
+        done, here = ways[here]
         dones.append(done)
-    return states, dones, numbers[here]
+    return list(numbers), dones, numbers[here]
+
+
+def number_at(begin, many, beats):
+    """Which of the many states of a trail stands ahead of the beat, far as that may be."""
+    return beats if beats < begin else begin + (beats - begin) % (many - begin)
 
 
 def doings(book, state, rule, off):

@@ -22,6 +22,25 @@ INTERFACE = {
         "times": "(book, state, rule, beats, *, off=())",
         "nth": "(book, state, rule, many=1, *, off=())",
     },
+    "hushrules.lots": {
+        "come_to": "(book, *, off=())",
+        "never": "(book, rule)",
+        "shows_never": "(book, rule, paper)",
+    },
+    "hushrules.offs": {
+        "holds": "(book, wish, *, off=())",
+        "fewest": "(book, wish)",
+        "shows_fewest": "(book, wish, paper)",
+    },
+    "hushrules.seen": {
+        "began": "(book, seen)",
+        "clash": "(book, seen)",
+        "shows_clash": "(book, seen, paper)",
+    },
+    "hushrules.alike": {
+        "alike": "(one, other)",
+        "shows_alike": "(one, other, paper)",
+    },
     "hushrules.errors": {
         "NoBook": "(at)",
         "NoSeen": "(at)",

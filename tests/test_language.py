@@ -18,6 +18,11 @@ BARRED_WORDS = re.compile(
     r"\b(type|typing|typing_extensions|enum|Enum|IntEnum|StrEnum|Flag|IntFlag|Generic|Protocol|ABC|ABCMeta|namedtuple"
     r"|NamedTuple|TypedDict|TYPE_CHECKING|abstractmethod)\b|dataclass|overload|contextmanager"
 )
+METHODS = set(
+    "append clear copy count endswith extend find get index insert isalnum isalpha isdigit islower isspace isupper items"
+    " join keys ljust lower lstrip partition pop remove replace reverse rfind rjust rpartition rsplit rstrip setdefault"
+    " split splitlines startswith strip update upper values zfill bit_length add discard".split()
+)
 TAKES_ITEMS = ("any", "all", "min", "max", "sum", "sorted")
 
 
@@ -50,6 +55,54 @@ class Language(unittest.TestCase):
             for node in nodes(path, ast.ImportFrom):
                 self.assertEqual(node.level, 0)
                 self.assertRegex(node.module, r"^(hushrules\.|__future__$)")
+
+    def test_imports_name_the_file_that_defines_it(self):
+        for path in FILES:
+            for node in nodes(path, ast.ImportFrom):
+                home = FOLDER / (node.module.split(".")[1] + ".py")
+                defined = [part.name for part in nodes(home, ast.FunctionDef, ast.ClassDef)]
+                defined += [part.id for part in nodes(home, ast.Name) if isinstance(part.ctx, ast.Store)]
+                for name in node.names:
+                    self.assertIn(name.name, defined, path.name)
+                    self.assertIsNone(name.asname)
+
+    def test_no_two_files_import_from_each_other(self):
+        homes = {path.stem: {node.module.split(".")[1] for node in nodes(path, ast.ImportFrom)} for path in FILES}
+        while homes:
+            free = [name for name, needed in homes.items() if not needed & set(homes)]
+            self.assertTrue(free, homes)
+            for name in free:
+                del homes[name]
+
+    def test_all_that_is_imported_is_used_and_means_nothing_else(self):
+        for path in FILES:
+            imported = [name.name for node in nodes(path, ast.ImportFrom) for name in node.names]
+            self.assertEqual(len(imported), len(set(imported)), path.name)
+            read = [node.id for node in nodes(path, ast.Name) if isinstance(node.ctx, ast.Load)]
+            bound = [node.id for node in nodes(path, ast.Name) if isinstance(node.ctx, ast.Store)]
+            bound += [node.arg for node in nodes(path, ast.arg)]
+            bound += [node.name for node in nodes(path, ast.FunctionDef, ast.ClassDef)]
+            for name in imported:
+                self.assertIn(name, read, path.name)
+                self.assertNotIn(name, bound, path.name)
+
+    def test_no_variable_is_called_as_a_class_or_function_of_its_file(self):
+        for path in FILES:
+            defined = [node.name for node in nodes(path, ast.FunctionDef, ast.ClassDef)]
+            for node in nodes(path, ast.Name, ast.arg):
+                if isinstance(node, ast.arg):
+                    self.assertNotIn(node.arg, defined, path.name)
+                elif isinstance(node.ctx, ast.Store):
+                    self.assertNotIn(node.id, defined, path.name)
+
+    def test_methods_of_builtin_values(self):
+        own = set()
+        for path in FILES:
+            own |= {node.name for node in nodes(path, ast.FunctionDef)}
+        for path in FILES:
+            for node in nodes(path, ast.Call):
+                if isinstance(node.func, ast.Attribute):
+                    self.assertIn(node.func.attr, METHODS | own, path.name)
 
     def test_names(self):
         for path in FILES:
