@@ -57,7 +57,12 @@ def step(book, state, order, off):
         if rule not in off and is_ready(book, rule, values, left):
             carry_out(book, rule, values, left)
             done.append(rule)
-    return tuple(done), (tuple(values), tuple([max(0, beats - 1) for beats in left]))
+    return tuple(done), ended(values, left)
+
+
+def ended(values, left):
+    """The state at a beat's end: each rule that is hushed is so for a beat less."""
+    return (tuple(values), tuple([max(0, beats - 1) for beats in left]))
 
 
 def is_ready(book, rule, values, left):

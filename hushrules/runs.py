@@ -59,6 +59,32 @@ def nth(book, state, rule, many=1, *, off=()):
     return around[rest] + rounds * length
 
 
+def went_on(book, state, beats, off):
+    """The state so many beats later, and a tuple of how often each rule did meanwhile."""
+    order = own_order(book)
+    numbers = {}
+    dones = []
+    here = state
+    # A few beats are walked alone, as the round may be far.
+    while here not in numbers and len(dones) < beats:
+        numbers[here] = len(dones)
+        done, here = step(book, here, order, off)
+        dones.append(done)
+    if len(dones) == beats:
+        return here, tally(book, dones)
+    around = dones[numbers[here]:]
+    rounds, rest = divmod(beats - len(dones), len(around))
+    walked = tally(book, dones + around[:rest])
+    again = tally(book, around)
+    counts = tuple([once + rounds * more for once, more in zip(walked, again)])
+    return list(numbers)[numbers[here] + rest], counts
+
+
+def tally(book, dones):
+    """How often each rule did."""
+    return tuple([len([done for done in dones if rule in done]) for rule in own_order(book)])
+
+
 def trail(book, state, off):
     """The states until one comes again, what was done at each, and the number of the one that comes again."""
     return trail_along(ways_from(book, [state], off), state)

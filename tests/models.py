@@ -4,10 +4,10 @@ import functools
 import itertools
 
 from hushrules.books import Book
-from tests.samples import ANY_THINGS, COUNTER, walk
+from tests.samples import ANY_THINGS, COUNTER, DESK, WATCH, walk
 
 MOST = 10 ** 60 - 1
-NO_NUMBERS = [-1, -(10 ** 59), 10 ** 60, 10 ** 79, True, False, None, "0", [0], (0,), COUNTER]
+NO_NUMBERS = [-1, -(10 ** 59), 10 ** 60, 10 ** 79, True, False, None, "0", [0], (0,), COUNTER, WATCH, DESK]
 
 
 def all_values(book):
@@ -97,11 +97,12 @@ def same_but_equal(thing):
 
 def twisted(thing, more=()):
     """Things that differ from this one at one place: put otherwise, left out, put in, put twice."""
-    yield from [None, COUNTER, [thing], (thing,), ()]
+    yield from [None, COUNTER, WATCH, DESK, [thing], (thing,), ()]
     if type(thing) is int:
         yield from [thing + 1, thing - 1, thing + 10 ** 60, str(thing), bool(thing), not thing]
     elif type(thing) is str:
-        yield from [thing + "s", thing.upper(), "", 0, "never", "does", "off", "none", "clash", "alike", "parted"]
+        yield from [thing + "s", thing.upper(), "", 0, "never", "does", "off", "none", "clash", "alike", "parted",
+                    "free", "matters"]
     elif type(thing) is tuple:
         yield list(thing)
         yield thing[::-1]

@@ -3,6 +3,8 @@
 import random
 
 from hushrules.books import Book
+from hushrules.desk import Desk
+from hushrules.watch import Watch
 
 
 def rule(test=(), changes=(), hushes=(), wakes=()):
@@ -18,6 +20,8 @@ def nested(kind, depth):
 
 TURN = rule(changes=(("turn", 0, 1),))
 COUNTER = Book((3,), (TURN,))
+WATCH = Watch(COUNTER, (0,))
+DESK = Desk("wheels 3\n- / turn 0 1 / - / -")
 
 ANY_THINGS = [
     0, 1, -1, 5, 24, 10 ** 79, -(10 ** 79), True, False, None,
@@ -26,6 +30,7 @@ ANY_THINGS = [
     (True,), (False, False), ("is", 0, 1), (("is", 0, 1),), ((0,), (0,), (0,)), ((0,), (0,), None),
     nested(list, 29), nested(tuple, 29), [0] * 30000, (0,) * 30000, ((0,) * 30000, ()), ((), (0,) * 30000),
     COUNTER, (COUNTER,), [COUNTER], (COUNTER, COUNTER), ((COUNTER,), (COUNTER,)), ((0,), (COUNTER,)),
+    WATCH, DESK, (WATCH,), [DESK], (WATCH, DESK), ((WATCH,), (DESK,)), ((0,), (WATCH,)), (DESK, 0, 1), (COUNTER, WATCH, DESK),
     ("x", "y"), ("00", "00"), (("0",), ("0",)), ([0], [0]), [(0,), (0,)],
 ]
 

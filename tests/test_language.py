@@ -88,7 +88,8 @@ class Language(unittest.TestCase):
 
     def test_no_variable_is_called_as_a_class_or_function_of_its_file(self):
         for path in FILES:
-            defined = [node.name for node in nodes(path, ast.FunctionDef, ast.ClassDef)]
+            rows = ast.parse(path.read_text()).body
+            defined = [node.name for node in rows if isinstance(node, (ast.FunctionDef, ast.ClassDef))]
             for node in nodes(path, ast.Name, ast.arg):
                 if isinstance(node, ast.arg):
                     self.assertNotIn(node.arg, defined, path.name)
@@ -129,6 +130,44 @@ class Language(unittest.TestCase):
                 for sign, other in zip(node.ops, node.comparators):
                     if isinstance(sign, (ast.Is, ast.IsNot)):
                         self.assertTrue(isinstance(other, ast.Constant) and other.value in (None, True, False))
+
+    def test_no_name_is_a_method_and_an_attribute(self):
+        methods = {part.name for path in FILES for node in nodes(path, ast.ClassDef) for part in node.body
+                   if isinstance(part, ast.FunctionDef)}
+        parts = [node for path in FILES for node in nodes(path, ast.Attribute)]
+        assigned = {node.attr for node in parts if isinstance(node.ctx, ast.Store)}
+        self.assertEqual(methods & assigned, set())
+        self.assertEqual(assigned & METHODS, set())
+        for node in parts:
+            self.assertIn(node.attr, methods | assigned | METHODS)
+
+    def test_what_is_iterated_at_once_is_not_kept(self):
+        lazy = ("zip", "range", "enumerate", "reversed", "items", "keys", "values")
+        for path in FILES:
+            for node in nodes(path, ast.Assign, ast.Return):
+                if isinstance(node.value, ast.Call):
+                    called = node.value.func
+                    self.assertNotIn(called.attr if isinstance(called, ast.Attribute) else called.id, lazy, path.name)
+
+    def test_finally_only_assigns_names(self):
+        for path in FILES:
+            for node in nodes(path, ast.Try):
+                self.assertEqual(node.handlers, [], path.name)
+                for row in node.finalbody:
+                    self.assertIsInstance(row, ast.Assign)
+                    self.assertIsInstance(row.value, ast.Name)
+
+    def test_module_level(self):
+        for path in FILES:
+            bound = []
+            for node in ast.parse(path.read_text()).body:
+                plain = isinstance(node, (ast.ImportFrom, ast.FunctionDef, ast.ClassDef, ast.Assign))
+                self.assertTrue(plain or isinstance(node.value, ast.Constant), path.name)
+                if isinstance(node, ast.Assign):
+                    bound += [target.id for target in node.targets]
+                elif isinstance(node, (ast.FunctionDef, ast.ClassDef)):
+                    bound.append(node.name)
+            self.assertEqual(len(bound), len(set(bound)), path.name)
 
     def test_lists_stand_where_a_class_has_its_own_equality(self):
         for path in FILES:
